@@ -1,0 +1,1 @@
+"""Unsaidsizes: models of joined parts whose sizes nobody has said."""

@@ -1,0 +1,1 @@
+"""Polynomials and tables, and how they are reckoned with."""

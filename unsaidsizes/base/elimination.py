@@ -1,0 +1,58 @@
+"""Elimination in number tables without fractions (Bareiss).
+
+Every number that comes up is a determinant of a part of the table, so the
+divisions leave nothing over, and the numbers stay as small as they can be.
+"""
+
+
+def _first_row(rows, start, column):
+    for k in range(start, len(rows)):
+        if rows[k][column] != 0:
+            return k
+    return None
+
+
+def _lowered(row, pivot, column, last):
+    """The row with 0 at the column; `last` is the pivot of the step before."""
+    up, down = pivot[column], row[column]
+    return [(up * own - down * other) // last for own, other in zip(row, pivot)]
+
+
+def triangle(numbers, width):
+    """Eliminates in the first `width` columns.
+
+    Returns the rows in echelon form, how many of them have a pivot, the sign
+    of the exchanges of rows, and the last pivot (1 if there is none).
+    """
+    rows = [list(row) for row in numbers]
+    found, sign, last = 0, 1, 1
+    for column in range(width):
+        at = _first_row(rows, found, column)
+        if at is None:
+            continue
+        if at != found:
+            rows[found], rows[at] = rows[at], rows[found]
+            sign = -sign
+        for k in range(found + 1, len(rows)):
+            rows[k] = _lowered(rows[k], rows[found], column, last)
+        last = rows[found][column]
+        found += 1
+    return rows, found, sign, last
+
+
+def solved_whole(numbers, right):
+    """Solves the regular square system `numbers` times x = c times `right`.
+
+    Returns the integer c, not 0, and the list x of integers: the determinant
+    and those of Cramer's rule, perhaps all of them with the other sign.
+    """
+    many = len(numbers)
+    rows, _, _, last = triangle([numbers[k] + [right[k]] for k in range(many)], many)
+    found = [0] * many
+    for k in reversed(range(many)):
+        row = rows[k]
+        rest = last * row[many]
+        for j in range(k + 1, many):
+            rest = rest - row[j] * found[j]
+        found[k] = rest // row[k]
+    return last, found

@@ -1,0 +1,1 @@
+"""What is tied to what, and what has to be given."""

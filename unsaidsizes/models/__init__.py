@@ -1,0 +1,1 @@
+"""Models, parts, books, and their texts."""

@@ -1,0 +1,1 @@
+"""The pairing of laws and quantities."""

@@ -1,0 +1,1 @@
+"""Assignments, ranks and needless laws."""
