@@ -64,7 +64,7 @@ BAD_LAWS = [
     "size x = 2*y", "size x = S*y", "size x = s*Y", "size x = s*", "size x = *y", "size x = s*y*z", "size X = s*y",
     "size x'y = s*y", "size x s*y", "size x = s*y r*z", "size = s*y", "size 1*x = s*y", "size  x = s*y",
     "size x = s'*y", "size x = s.*y", "size x = s*y + f'", "size x = s*y\n", "size x = " + "s" * 201 + "*y",
-    "part a", "end", "join a b"]
+    "size x + s*y", "size x == s*y", "size x s*y =", "part a", "end", "join a b"]
 
 
 class TestLaws(unittest.TestCase):
@@ -141,7 +141,8 @@ class TestBooks(unittest.TestCase):
         lines = TEXT.split("\n")[:-1]
         for at in range(len(lines)):
             for wrong in ("", " ", "x", "ports p", "part", "port", "end ", " end", "law 0 = 0 0", "join a", "place a",
-                          "port p q", "port P", "inner a.b", "port abcdefghijklm", "part a b", "place a coil b"):
+                          "port p q", "port P", "inner a.b", "port abcdefghijklm", "part a b", "place a coil b",
+                          "place A coil", "place a Coil", "place a.b coil", "join P q", "join q P", "join .p q"):
                 self.raises(BadLine, at, "\n".join(lines[:at] + [wrong] + lines[at + 1:]) + "\n")
         for at in range(1, len(lines)):
             # Without a newline behind the last line, whatever it says.

@@ -35,9 +35,8 @@ def plus(one, two):
 
 
 def times(one, two):
-    if one == [] or two == []:
-        return []
-    total = [0] * (len(one) + len(two) - 1)
+    # With nought one of the loops is empty, and all zeros are trimmed.
+    total = [0] * (len(one) + len(two))
     for k, number in enumerate(one):
         if number != 0:
             for m, other in enumerate(two):

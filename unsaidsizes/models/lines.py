@@ -61,9 +61,8 @@ def _read_number(word):
 
 def _read_term(word, first):
     """A term; `first` is read from what stands in front of the star."""
-    _, star, behind = word.partition("*")
-    place = _read_quantity(behind)
-    if star == "" or first is None or place is None:
+    place = _read_quantity(word.partition("*")[2])
+    if first is None or place is None:
         return None
     return (first, place[0], place[1])
 
