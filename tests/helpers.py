@@ -118,6 +118,18 @@ def small_models(many=60):
     return found
 
 
+def beside(one, two):
+    """Two models side by side, with nothing in common."""
+    many, laws = len(one[0]), list(one[1])
+    for told in two[1]:
+        if told[0] == "exact":
+            laws.append(("exact", [(number, k, j + many) for number, k, j in told[1]], told[2]))
+        else:
+            terms = [(size + "b", k, j + many) for size, k, j in told[3]]
+            laws.append(("sized", told[1], told[2] + many, terms, told[4]))
+    return ([f"q{j}" for j in range(many + len(two[0]))], laws)
+
+
 # Slow reckoning. Polynomials are dicts from exponents to numbers here.
 
 def slow_entry(told, quantity):
@@ -225,3 +237,58 @@ def slow_rank(model, laws=None, columns=None, chosen=None):
     laws = range(len(model[1])) if laws is None else laws
     columns = range(len(model[0])) if columns is None else columns
     return chosen.rank(list(laws), list(columns))
+
+
+# Values with one thing changed, which keep their form.
+
+def places_in(value, way=()):
+    """The ways to all lists and integers in a value."""
+    if isinstance(value, int):
+        return [way]
+    own = [way] if isinstance(value, list) else []
+    return own + [one for k, item in enumerate(value) for one in places_in(item, way + (k,))]
+
+
+def replaced(value, way, change):
+    if not way:
+        return change(value)
+    items = list(value)
+    items[way[0]] = replaced(items[way[0]], way[1:], change)
+    return items if isinstance(value, list) else tuple(items)
+
+
+def changed_integer(chance, number):
+    return chance.choice([number - 1, number + 1, number + 1, -number, 0, 1, -1, 2, 3, number + 7, 10 ** 30])
+
+
+def changed_list(chance, items, filler):
+    """A list with an element more, less or at another place; the filler is for empty ones."""
+    items = list(items)
+    what = chance.randrange(4)
+    if what == 0 and items:
+        del items[chance.randrange(len(items))]
+    elif what == 1 and len(items) > 1:
+        one, two = chance.sample(range(len(items)), 2)
+        items[one], items[two] = items[two], items[one]
+    elif items:
+        items.insert(chance.randint(0, len(items)), deepcopy(chance.choice(items)))
+    elif filler is not None:
+        items.append(deepcopy(filler))
+    return items
+
+
+def mutated(chance, value, fillers=None):
+    """A value with one thing changed.
+
+    `fillers` tells what may be put into empty lists: for the first step of
+    the way a list with an item for each depth.
+    """
+    way = chance.choice(places_in(value))
+    known = (fillers or {}).get(way[0] if way else None, [])
+    filler = known[len(way) - 1] if way and len(way) <= len(known) else None
+
+    def change(one):
+        if isinstance(one, int):
+            return changed_integer(chance, one)
+        return changed_list(chance, one, filler)
+    return replaced(value, way, change)

@@ -4,6 +4,8 @@ Every number that comes up is a determinant of a part of the table, so the
 divisions leave nothing over, and the numbers stay as small as they can be.
 """
 
+from math import gcd
+
 
 def _first_row(rows, start, column):
     for k in range(start, len(rows)):
@@ -16,6 +18,19 @@ def _lowered(row, pivot, column, last):
     """The row with 0 at the column; `last` is the pivot of the step before."""
     up, down = pivot[column], row[column]
     return [(up * own - down * other) // last for own, other in zip(row, pivot)]
+
+
+def cleared_whole(row, pivot, column):
+    """The row, times an integer, less a multiple of `pivot`: it has 0 at the column, and no common divisor."""
+    shared = gcd(pivot[column], row[column])
+    up, down = pivot[column] // shared, row[column] // shared
+    sums = [up * own - down * other for own, other in zip(row, pivot)]
+    most = 0
+    for number in sums:
+        most = gcd(most, number)
+        if most == 1:
+            return sums
+    return [number // most for number in sums] if most > 1 else sums
 
 
 def triangle(numbers, width):

@@ -2,7 +2,7 @@
 
 from unsaidsizes.ranks.assign import greatest_state, least_sets, rank, value
 from unsaidsizes.ranks.circuits import circuits
-from unsaidsizes.ranks.frames import Frame
+from unsaidsizes.ranks.frames import frame_of
 from unsaidsizes.ranks.growing import grown, reached
 from unsaidsizes.ranks.needs import by_wishes, is_set, need_order, need_set, need_wishes
 from unsaidsizes.ranks.papers import check_rank
@@ -10,16 +10,16 @@ from unsaidsizes.ranks.papers import check_rank
 
 def completes(model, columns):
     need_set(model, columns)
-    frame = Frame(model)
+    frame = frame_of(model)
     given = {j: True for j in columns}
     others = [j for j in range(frame.many) if j not in given]
     state, _ = grown(frame, frame.exact + frame.sized, others)
     return state.size() == len(others) and len(others) == rank(model)
 
 
-def _dearest_state(model, wishes):
+def dearest_state(model, wishes):
     """The state of an assignment of the greatest size that lacks the dearest completing set."""
-    frame = Frame(model)
+    frame = frame_of(model)
     # Who takes what is least dear first leaves out what is dearest.
     candidates = list(reversed(by_wishes(model, wishes)))
     state, _ = grown(frame, frame.exact + frame.sized, candidates)
@@ -28,7 +28,7 @@ def _dearest_state(model, wishes):
 
 def dearest(model, wishes):
     need_wishes(model, wishes)
-    return _dearest_state(model, wishes).left_out()
+    return dearest_state(model, wishes).left_out()
 
 
 def _behind(quantities, order, limit):
@@ -39,7 +39,7 @@ def _behind(quantities, order, limit):
 
 def givens_paper(model, wishes):
     need_wishes(model, wishes)
-    state = _dearest_state(model, wishes)
+    state = dearest_state(model, wishes)
     rows, columns, pairs = state.assignment()
     arcs = state.arcs()
     given = state.left_out()
@@ -90,6 +90,6 @@ def spare(model):
 def kept(model, order):
     """The ascending list of the laws that make the rank of those before them in an order greater."""
     need_order(model, order)
-    frame = Frame(model)
+    frame = frame_of(model)
     _, pairs = grown(frame, order, list(range(frame.many)))
     return sorted([which for which, _ in pairs])

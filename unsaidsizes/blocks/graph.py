@@ -1,9 +1,10 @@
 """The arcs between quantities for an assignment of the greatest size."""
 
 from unsaidsizes.errors import NotFull, NotGreatest
-from unsaidsizes.models.laws import is_exact
 from unsaidsizes.ranks.assign import rank, state_of
-from unsaidsizes.ranks.growing import State, reached
+from unsaidsizes.ranks.circuits import with_own
+from unsaidsizes.ranks.frames import Frame
+from unsaidsizes.ranks.growing import placed, reached
 from unsaidsizes.ranks.needs import need_row
 
 
@@ -38,16 +39,18 @@ def feeds(model, rows, columns, pairs, i):
     need_row(model, i)
     if state.size() < len(model[1]):
         raise NotFull(state.size())
-    if not is_exact(model[1][i]):
-        return [j for which, j in pairs if which == i]
-    return _fed(state.frame, [which for which in rows if which != i], columns)
+    return fed(state)[i]
 
 
-def _fed(frame, others, columns):
-    """The columns without which the other exact laws have a determinant that is not nought."""
-    state = State(frame)
-    for which in others:
-        vector = state.reduced(which)
-        state.put_row(which, [j for j in columns if vector[j] != 0][0], vector)
-    last = [j for j in columns if j not in state.columns][0]
-    return sorted([last] + state.arcs_from(last))
+def fed(state):
+    """What each law feeds, for the state of an assignment with all laws."""
+    found = {which: [j] for j, which in state.paired.items()}
+    # Solved for the columns, the law of a row stands with a number that is not
+    # 0 just where the other laws and columns have a determinant that is not nought.
+    frame = state.frame
+    wide = Frame(frame.many, with_own(frame, state.rows), {}, frame.bits)
+    solved = placed(wide, state.rows, state.columns)
+    for k, which in enumerate(state.rows):
+        met = [j for j, vector in zip(solved.columns, solved.vectors) if vector[frame.many + k] != 0]
+        found[which] = sorted(met)
+    return found

@@ -1,7 +1,7 @@
 """Corner ranks, and the pairing that tells them all."""
 
 from unsaidsizes.errors import OutOfRange
-from unsaidsizes.ranks.frames import Frame
+from unsaidsizes.ranks.frames import frame_of
 from unsaidsizes.ranks.growing import grown
 from unsaidsizes.ranks.needs import by_wishes, need_order, need_wishes
 
@@ -15,7 +15,7 @@ def corner(model, order, wishes, i, k):
     if not 0 <= k <= len(model[0]):
         raise OutOfRange(k)
     row = by_wishes(model, wishes)
-    state, _ = grown(Frame(model), order[:i], row[len(row) - k:])
+    state, _ = grown(frame_of(model), order[:i], row[len(row) - k:])
     return state.size()
 
 
@@ -24,5 +24,5 @@ def pairing(model, order, wishes):
     need_order(model, order)
     need_wishes(model, wishes)
     candidates = list(reversed(by_wishes(model, wishes)))
-    _, pairs = grown(Frame(model), order, candidates)
+    _, pairs = grown(frame_of(model), order, candidates)
     return pairs

@@ -1,7 +1,7 @@
 """Papers of the pairing."""
 
 from unsaidsizes.ranks.assign import is_assignment
-from unsaidsizes.ranks.frames import Frame
+from unsaidsizes.ranks.frames import frame_of
 from unsaidsizes.ranks.growing import State, reached
 from unsaidsizes.ranks.needs import by_wishes, first_not_new, is_set, need_order, need_wishes
 
@@ -45,7 +45,7 @@ def _first_states(model, order, least):
 
     Of these it keeps what is left out and the arcs.
     """
-    state = State(Frame(model))
+    state = State(frame_of(model))
     pairs, states = [], []
     graphs = [(state.left_out(), state.arcs())]
     for which in order:
@@ -140,7 +140,7 @@ def check_pairing(model, order, wishes, pairs, paper):
     corners = Corners(model, order, wishes, pairs)
     if not _are_states(model, corners, pairs, states):
         return False
-    frame = Frame(model)
+    frame = frame_of(model)
     bounds = []
     for triple in triples:
         bound = _bound_of(model, frame, corners, triple)

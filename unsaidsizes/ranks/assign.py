@@ -5,7 +5,7 @@ from unsaidsizes.base.residues import is_regular
 from unsaidsizes.errors import NotExact
 from unsaidsizes.models.laws import is_exact
 from unsaidsizes.models.model import exact_laws, exact_table
-from unsaidsizes.ranks.frames import Frame, touches
+from unsaidsizes.ranks.frames import frame_of, touches
 from unsaidsizes.ranks.growing import grown, placed, reached, turned
 from unsaidsizes.ranks.needs import first_not_rising, is_set, need_quantity, need_row, need_set
 
@@ -26,21 +26,21 @@ def entry(model, i, quantity):
 
 def exact_rank(model, columns):
     need_set(model, columns)
-    frame = Frame(model)
+    frame = frame_of(model)
     return frame.exact_rank(frame.exact, columns)
 
 
 def falling(model, columns):
     """The ascending list of the sized laws that touch a quantity of a set."""
     need_set(model, columns)
-    frame = Frame(model)
+    frame = frame_of(model)
     return frame.falling(frame.sized, columns)
 
 
 def value(model, columns):
     """The exact rank of a set plus the sized laws that fall on it, less its quantities."""
     need_set(model, columns)
-    frame = Frame(model)
+    frame = frame_of(model)
     return frame.value(frame.laws(), columns)
 
 
@@ -79,7 +79,7 @@ def state_of(model, rows, columns, pairs):
     """The state of an assignment, or None if the three lists are none."""
     if not _has_form(model, rows, columns, pairs):
         return None
-    state = placed(Frame(model), rows, columns)
+    state = placed(frame_of(model), rows, columns)
     if state is not None:
         for which, j in pairs:
             state.paired[j] = which
@@ -88,7 +88,7 @@ def state_of(model, rows, columns, pairs):
 
 def greatest_state(model):
     """The state of an assignment of the greatest size."""
-    frame = Frame(model)
+    frame = frame_of(model)
     # Exact laws come first, as they need no exchanges then.
     state, _ = grown(frame, frame.exact + frame.sized, list(range(frame.many)))
     return state

@@ -1,6 +1,6 @@
 """Assignments that grow law by law, and the arcs between their quantities."""
 
-from unsaidsizes.base.residues import cleared, first_other
+from unsaidsizes.base.residues import first_other
 
 
 class State:
@@ -45,7 +45,7 @@ class State:
         vector = self.frame.rows[which]
         for column, pivot in zip(self.columns, self.vectors):
             if vector[column] != 0:
-                vector = cleared(vector, pivot, column, self.frame.bits)
+                vector = self.frame.cleared(vector, pivot, column)
         return vector
 
     def row_of(self, which):
@@ -74,7 +74,7 @@ class State:
         own = self.vectors[at]
         for k in range(len(self.vectors)):
             if k != at and self.vectors[k][column] != 0:
-                self.vectors[k] = cleared(self.vectors[k], own, column, self.frame.bits)
+                self.vectors[k] = self.frame.cleared(self.vectors[k], own, column)
 
     def put_row(self, which, column, vector):
         """Takes in an exact law, whose reduced vector is not 0 at the column."""

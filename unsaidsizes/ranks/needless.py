@@ -8,7 +8,7 @@ from unsaidsizes.errors import NotExact, WrongSize
 from unsaidsizes.models.laws import is_exact, source_of
 from unsaidsizes.models.model import exact_laws, exact_table
 from unsaidsizes.ranks.circuits import circuits
-from unsaidsizes.ranks.frames import Frame
+from unsaidsizes.ranks.frames import frame_of
 
 
 def _polynomial_of(number, step):
@@ -50,7 +50,7 @@ def _multipliers(table, laws):
 
 def relations(model):
     """The exact laws that depend, each with its told relation."""
-    frame = Frame(model)
+    frame = frame_of(model)
     table = {which: row for which, row in zip(frame.exact, exact_table(model))}
     found = []
     for which, laws in circuits(frame, list(range(frame.many))):

@@ -1,0 +1,1 @@
+"""Free beginnings, and how deep a source comes into a quantity."""

@@ -1,0 +1,59 @@
+"""The number of free beginnings, and its papers."""
+
+from unsaidsizes.base.inverses import are_inverse
+from unsaidsizes.base.polys import is_polynomial
+from unsaidsizes.base.tables import determinant
+from unsaidsizes.begin.changing import relaxed
+from unsaidsizes.marks.grids import changed, exact_indexes
+from unsaidsizes.marks.marks import is_marks, tight_numbers, tight_places
+from unsaidsizes.ranks.needs import first_not_new, first_not_rising
+
+
+def beginnings(grid):
+    """The number of free beginnings, None if the grid is not full."""
+    found = relaxed(grid)
+    if found is None:
+        return None
+    _, p, q, _ = found
+    return sum(q) - sum(p)
+
+
+def beginnings_paper(grid):
+    """A paper that the check accepts, None if the grid is not full."""
+    found = relaxed(grid)
+    if found is None:
+        return None
+    changing, p, q, state = found
+    _, columns, pairs = state.assignment()
+    return (changing.changes(), changing.inverse(), p, q, columns, [j for _, j in pairs])
+
+
+def _is_table(table, many):
+    if len(table) != many or not all(len(row) == many for row in table):
+        return False
+    return all(is_polynomial(one) for row in table for one in row)
+
+
+def _is_regular_at(numbers, places, columns, chosen):
+    """True if columns and chosen places show that a tight table is regular."""
+    many = len(numbers) + len(places)
+    if len(columns) != len(numbers) or len(chosen) != len(places) or first_not_rising(columns, many) is not None:
+        return False
+    if first_not_new(columns + chosen, many) is not None:
+        return False
+    if not all(j in row for j, row in zip(chosen, places)):
+        return False
+    return determinant([[row[j] for j in columns] for row in numbers]) != 0
+
+
+def check_beginnings(grid, number, paper):
+    changes, inverse, p, q, columns, places = paper
+    many = len(exact_indexes(grid))
+    if number != sum(q) - sum(p) or not _is_table(changes, many) or not _is_table(inverse, many):
+        return False
+    if not are_inverse(changes, inverse):
+        return False
+    now = changed(grid, changes)
+    if not is_marks(now, p, q):
+        return False
+    return _is_regular_at(tight_numbers(now, p, q), tight_places(now, p, q), columns, places)

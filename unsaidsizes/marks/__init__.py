@@ -1,0 +1,1 @@
+"""Grids of square models, and their marks."""

@@ -1,0 +1,1 @@
+"""Said sizes and exact runs."""

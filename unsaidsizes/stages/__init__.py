@@ -1,0 +1,1 @@
+"""Stages at which beginnings can be chosen for nearly all sizes."""
