@@ -354,7 +354,8 @@ class Finder:
         own = set(bound_names(node))
         for name in own & barred:
             self.say(file, node, "L15: a local name is that of an import: " + name)
-        for name in own & set(file.defined):
+        # The interface calls some parameters like functions.
+        for name in own & set(file.defined) - {one.arg for one in node.args.args}:
             self.say(file, node, "a local name is that of a function: " + name)
         self.of_comprehensions(file, node)
         known = own | set(file.imports) | set(file.defined) | set(file.values) | BUILTINS

@@ -92,6 +92,15 @@ class TestInverses(unittest.TestCase):
                 ([[[prime], []], [[], [prime]]], [[[1], []], [[], [2]]], False), ([[[-3, 1]]], [[[-3, 1]]], False)):
             self.assertIs(fresh(self, are_inverse, one, two), told, (one, two))
 
+    def test_polynomials_that_are_0_at_powers_of_2(self):
+        for k in range(90):
+            # (d - 3) (d - 2^k), and this times 2^61 - 1.
+            for number in (1, 2 ** 61 - 1):
+                one = [number * 3 * 2 ** k, -number * (3 + 2 ** k), number]
+                self.assertIs(are_inverse([[[1], one], [[], [1]]], [[[1], []], [[], [1]]]), False)
+                self.assertIs(are_inverse([[[1], [-c for c in one]], [[], [1]]], [[[1], one], [[], [1]]]), True)
+                self.assertIs(are_inverse([[[c + 5 * (at == 0) for at, c in enumerate(one)]]], [[[1]]]), False)
+
     def test_made_up(self):
         chance = random.Random(505)
         found = 0

@@ -306,6 +306,18 @@ class TestPapers(unittest.TestCase):
             self.assertIs(check_parts(model, parts(model), paper[:4] + (wrong,) + paper[5:]), False)
         self.assertIs(check_parts(model, parts(model), paper[:4] + (paper[4][::-1],) + paper[5:]), False)
 
+    def test_no_block_leads_to_a_crowded_quantity(self):
+        # b is an exit, and an arc leads to it from a: both are crowded.
+        model = (["a", "b"], [
+            ("sized", 0, 1, [("s", 0, 0)], ""), ("sized", 0, 1, [("t", 1, 1)], ""), ("sized", 0, 0, [("u", 1, 0)], "")])
+        good = ([], [], [(0, 1), (2, 0)], [], [(1, -1), (0, 1)], [])
+        self.assertIs(check_parts(model, ([], [], [0, 1]), good), True)
+        self.assertIs(check_parts(model, ([], [[0]], [1]), ([], [], [(0, 1), (2, 0)], [], [(1, -1)], [[0]])), False)
+        self.assertIs(slow_check(model, ([], [[0]], [1]), ([], [], [(0, 1), (2, 0)], [], [(1, -1)], [[0]])), False)
+        two = (["a", "b", "c"], model[1] + [("exact", [(1, 0, 2)], "")])
+        paper = ([3], [2], [(0, 1), (2, 0)], [], [(1, -1)], [[2], [0]])
+        self.assertIs(check_parts(two, ([], [[2], [0]], [1]), paper), False)
+
 
 if __name__ == "__main__":
     unittest.main()

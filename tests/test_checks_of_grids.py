@@ -134,7 +134,7 @@ class TestLongLists(unittest.TestCase):
         self.begun = time.monotonic()
 
     def tearDown(self):
-        self.assertLess(time.monotonic() - self.begun, 20)
+        self.assertLess(time.monotonic() - self.begun, 60)
 
     def test_of_models(self):
         model = (["a", "b"], [("exact", [(1, 0, 0), (1, 1, 1)], ""), ("sized", 0, 1, [("s", 0, 0)], "")])

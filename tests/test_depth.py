@@ -124,6 +124,8 @@ class TestDepth(unittest.TestCase):
             fails(self, NotFull, 1, function, singular)
             fails(self, NotFull, 0, function, [("exact", [[]])])
             fails(self, NotFull, 1, function, [("sized", [[0], []]), ("sized", [[0, 1], []])])
+            fails(self, NotFull, 2, function, [("sized", [[0], [], []]), ("sized", [[1], [], []]), ("sized", [[], [2], []])])
+            fails(self, NotFull, 2, function, [("exact", [[1], [], [1]]), ("sized", [[1], [], [0]]), ("sized", [[], [], [2, 3]])])
             # 16 rows that are not full are too many all the same.
             fails(self, TooLarge, 16, function, [("exact", [[]] * 16)] * 16)
         fails(self, NotFull, 1, depth, singular, 0, 0)

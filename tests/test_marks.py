@@ -169,6 +169,18 @@ class TestRegular(unittest.TestCase):
                               ([0], [10 ** 30]), ([0] * 999, [0] * 999), (list(range(999)), list(range(999)))):
             self.assertIs(fresh(self, is_regular, GRID, *marks, rows, columns), False, (rows, columns))
 
+    def test_lists_that_are_no_sets(self):
+        # All sets of as many rows and columns are regular here.
+        grid = [("exact", [[1], [1], [1]]), ("exact", [[1], [2], [4]]), ("sized", [[0], [0], [0]])]
+        marks = ([0] * 3, [0] * 3)
+        self.assertIs(is_regular(grid, *marks, [0, 1, 2], [0, 1, 2]), True)
+        for wrong in ([1, 0], [2, 0], [2, 1, 0], [0, 2, 1], [0, 0], [1, 1, 1], [-1], [-3], [3], [0, 3], [-1, 0], [0, 1, 2, 3],
+                      [-1, 1, 2], [10 ** 30], [-(10 ** 30)]):
+            right = list(range(len(wrong)))[:3]
+            self.assertIs(is_regular(grid, *marks, wrong, right), False, wrong)
+            self.assertIs(is_regular(grid, *marks, right, wrong), False, wrong)
+            self.assertIs(is_regular(grid, *marks, wrong, wrong), False, wrong)
+
     def test_all_sets(self):
         chance = random.Random(5031)
         both = set()

@@ -50,7 +50,7 @@ class Changing:
         self.rows[i] = [_divided(one, shared) for one in row]
         self.steps.append((i, own, shared, others))
 
-    def lower(self, p, frame, columns):
+    def loosen(self, p, frame, columns):
         """Makes as many rows as possible less tight: those that depend, at some columns, on rows with greater marks."""
         order = [which for _, which in sorted([(-p[i], i) for i in self.exact])]
         place = {which: k for k, which in enumerate(self.exact)}
@@ -128,4 +128,4 @@ def relaxed(grid):
         state = tight_state(frame, columns, columns)
         if state.size() == len(grid):
             return changing, p, q, state
-        changing.lower(p, frame, short_columns(state))
+        changing.loosen(p, frame, short_columns(state))

@@ -2,11 +2,10 @@
 
 from unsaidsizes.base.inverses import are_inverse
 from unsaidsizes.base.polys import is_polynomial
-from unsaidsizes.base.tables import determinant
 from unsaidsizes.begin.changing import relaxed
 from unsaidsizes.marks.grids import changed, exact_indexes
-from unsaidsizes.marks.marks import is_marks, tight_numbers, tight_places
-from unsaidsizes.ranks.needs import first_not_new, first_not_rising
+from unsaidsizes.marks.marks import is_marks
+from unsaidsizes.marks.tight import shows_regular, tight_frame
 
 
 def beginnings(grid):
@@ -34,18 +33,6 @@ def _is_table(table, many):
     return all(is_polynomial(one) for row in table for one in row)
 
 
-def _is_regular_at(numbers, places, columns, chosen):
-    """True if columns and chosen places show that a tight table is regular."""
-    many = len(numbers) + len(places)
-    if len(columns) != len(numbers) or len(chosen) != len(places) or first_not_rising(columns, many) is not None:
-        return False
-    if first_not_new(columns + chosen, many) is not None:
-        return False
-    if not all(j in row for j, row in zip(chosen, places)):
-        return False
-    return determinant([[row[j] for j in columns] for row in numbers]) != 0
-
-
 def check_beginnings(grid, number, paper):
     changes, inverse, p, q, columns, places = paper
     many = len(exact_indexes(grid))
@@ -56,4 +43,4 @@ def check_beginnings(grid, number, paper):
     now = changed(grid, changes)
     if not is_marks(now, p, q):
         return False
-    return _is_regular_at(tight_numbers(now, p, q), tight_places(now, p, q), columns, places)
+    return shows_regular(tight_frame(now, p, q), list(range(len(grid))), columns, places)

@@ -135,16 +135,16 @@ def _is_walk(walk, block, arcs):
     return sorted({j for j in walk}) == block
 
 
-def check_parts(model, told, paper):
+def check_parts(model, parts, paper):
     rows, columns, pairs, loose_ways, crowded_ways, walks = paper
-    loose, blocks, crowded = told
+    loose, blocks, crowded = parts
     state = state_of(model, rows, columns, pairs)
-    if state is None or not _are_parted(model, told) or len(walks) != len(blocks):
+    if state is None or not _are_parted(model, parts) or len(walks) != len(blocks):
         return False
     arcs, left, exits = state.arcs(), state.left_out(), state.exits()
     if not all(j in loose for j in left) or not all(j in crowded for j in exits):
         return False
-    place = _ranks_of(told)
+    place = _ranks_of(parts)
     if any(place[b] < place[a] for a, ends in enumerate(arcs) for b in ends):
         return False
     if not are_ways(loose_ways, loose, left, arcs) or not are_ways(crowded_ways, crowded, exits, turned(arcs)):

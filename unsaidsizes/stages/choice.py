@@ -1,10 +1,9 @@
 """The choice that leaves free what is wished, and its papers."""
 
-from unsaidsizes.base.tables import determinant
 from unsaidsizes.errors import BadWish
-from unsaidsizes.marks.tight import tight_state
+from unsaidsizes.marks.tight import shows_regular, tight_state
 from unsaidsizes.ranks.growing import reached
-from unsaidsizes.ranks.needs import first_not_new, first_not_rising
+from unsaidsizes.ranks.needs import first_not_rising
 from unsaidsizes.stages.staged import staged
 
 
@@ -97,19 +96,9 @@ class Checker:
 
     def is_regular(self, rows, chosen, columns, places):
         """True if columns and places show that the tight table of a stage is regular at the chosen columns."""
-        frame = self.found.frame
-        exact = [i for i in rows if i in frame.rows]
-        sized = [i for i in rows if i in frame.touched]
-        if len(columns) != len(exact) or len(places) != len(sized):
-            return False
-        many = len(self.found.q)
-        if first_not_rising(columns, many) is not None or first_not_new(columns + places, many) is not None:
-            return False
         if not all(j in chosen for j in columns + places):
             return False
-        if not all(j in frame.touched[i] for i, j in zip(sized, places)):
-            return False
-        return determinant([[frame.rows[i][j] for j in columns] for i in exact]) != 0
+        return shows_regular(self.found.frame, rows, columns, places)
 
     def is_bound(self, rows, rest, columns):
         """True if a set shows that too few columns can be chosen from the rest."""
