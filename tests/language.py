@@ -155,6 +155,8 @@ class Finder:
             if isinstance(node, ast.Assign):
                 if len(node.targets) != 1 or not isinstance(node.targets[0], ast.Name):
                     self.say(file, node, "L3: not one plain name")
+                if self.is_table_of_functions(file, node):
+                    continue
                 try:
                     self.of_value(file, node, ast.literal_eval(node.value))
                 except ValueError:
@@ -171,6 +173,14 @@ class Finder:
         for name in file.imports:
             if name not in used:
                 self.say(file, None, "not used: " + name)
+
+    def is_table_of_functions(self, file, node):
+        """True for a dict of functions that are defined above it."""
+        above = [one.name for one in file.tree.body
+                 if isinstance(one, ast.FunctionDef) and one.lineno < node.lineno]
+        return isinstance(node.value, ast.Dict) and all(
+            isinstance(key, ast.Constant) and isinstance(one, ast.Name) and one.id in above
+            for key, one in zip(node.value.keys, node.value.values))
 
     def of_value(self, file, node, value):
         inner = value.values() if isinstance(value, dict) else value if isinstance(value, (list, tuple)) else []

@@ -5,7 +5,8 @@ from tests.helpers import fresh, made_up, mutated, slow_determinant
 from tests.slow_grids import (
     added, chosen_degree, made_grid, mixed, powers, slow_beginnings, slow_number_determinant, slow_regular, slow_tight,
     small_grids, trimmed)
-from unsaidsizes.base.inverses import are_inverse, packed
+from unsaidsizes.base.inverses import are_inverse
+from unsaidsizes.base.packing import packed
 from unsaidsizes.base.tables import multiple_of, product
 from unsaidsizes.begin.relax import beginnings, beginnings_paper, check_beginnings
 from unsaidsizes.marks.grids import changed, grid_of

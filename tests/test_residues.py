@@ -5,7 +5,7 @@ import unittest
 from itertools import combinations
 
 from tests.helpers import slow_determinant
-from unsaidsizes.base.lowest import common, lowest_forms, quotient
+from unsaidsizes.base.lowest import common, lowest_forms, whole_quotient
 from unsaidsizes.base.polys import times
 from unsaidsizes.base.residues import EXPONENTS, is_regular, pivots, regular_columns, residue_rank, residues
 from unsaidsizes.base.tables import determinant, rank
@@ -88,9 +88,9 @@ class TestLowest(unittest.TestCase):
         for _ in range(100):
             one, two, three = [[chance.randint(-9, 9) for _ in range(chance.randint(0, 4))] + [chance.choice([-2, 1, 3])]
                                for _ in range(3)]
-            self.assertEqual(quotient(times(one, two), two), one)
+            self.assertEqual(whole_quotient(times(one, two), two), one)
             shared = common(times(one, three), times(two, three))
-            self.assertEqual(times(quotient(times(three, shared), three), three), times(shared, three))
+            self.assertEqual(times(whole_quotient(times(three, shared), three), three), times(shared, three))
             self.assertGreaterEqual(len(shared), len(three))
             many = lowest_forms([times(one, three), [], times(two, three)])
             self.assertEqual(many[1], [])

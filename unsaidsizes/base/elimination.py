@@ -55,19 +55,29 @@ def triangle(numbers, width):
     return rows, found, sign, last
 
 
-def solved_whole(numbers, right):
-    """Solves the regular square system `numbers` times x = c times `right`.
+def solved_sides(numbers, sides):
+    """Solves the regular square system `numbers` times x = c times `sides`, which has as many rows.
 
-    Returns the integer c, not 0, and the list x of integers: the determinant
-    and those of Cramer's rule, perhaps all of them with the other sign.
+    Returns the integer c, not 0, and the table x of integers: the determinant
+    and those of Cramer's rule, perhaps all of them with the other sign. None
+    if the determinant is 0.
     """
     many = len(numbers)
-    rows, _, _, last = triangle([numbers[k] + [right[k]] for k in range(many)], many)
-    found = [0] * many
+    rows, regular, _, last = triangle([own + side for own, side in zip(numbers, sides)], many)
+    if regular < many:
+        return None
+    found = [[] for _ in range(many)]
     for k in reversed(range(many)):
         row = rows[k]
-        rest = last * row[many]
+        rest = [last * own for own in row[many:]]
         for j in range(k + 1, many):
-            rest = rest - row[j] * found[j]
-        found[k] = rest // row[k]
+            if row[j] != 0:
+                rest = [own - row[j] * other for own, other in zip(rest, found[j])]
+        found[k] = [own // row[k] for own in rest]
     return last, found
+
+
+def solved_whole(numbers, right):
+    """As `solved_sides`, for one column and a determinant other than 0."""
+    factor, found = solved_sides(numbers, [[number] for number in right])
+    return factor, [row[0] for row in found]

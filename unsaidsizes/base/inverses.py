@@ -1,19 +1,10 @@
 """Whether the product of two tables of polynomials is a multiple of one, also for very long polynomials."""
 
+from unsaidsizes.base.packing import packed
+from unsaidsizes.base.polys import is_polynomial
+
 # 2^61 - 1
 PRIME = 2305843009213693951
-
-
-def packed(one, step):
-    """The value of a polynomial at 2^step."""
-    # Neighbours are put together to pairs: long sums are built only a few times.
-    values, shift = list(one), step
-    while len(values) > 1:
-        if len(values) & 1:
-            values.append(0)
-        values = [values[k] + (values[k + 1] << shift) for k in range(0, len(values), 2)]
-        shift = shift + shift
-    return values[0] if values else 0
 
 
 def _residue(one):
@@ -69,3 +60,14 @@ def are_inverse(one, two):
     values = _product([[packed(poly, step) for poly in row] for row in one],
                       [[packed(poly, step) for poly in row] for row in two])
     return _is_diagonal(values) and 0 < abs(values[0][0]) <= bound
+
+
+def _is_table(table, many):
+    if len(table) != many or not all(len(row) == many for row in table):
+        return False
+    return all(is_polynomial(one) for row in table for one in row)
+
+
+def are_changes(changes, inverse, many):
+    """True if two lists are tables with so many rows and columns whose product is a multiple of one."""
+    return _is_table(changes, many) and _is_table(inverse, many) and are_inverse(changes, inverse)

@@ -9,6 +9,8 @@ and no nought is guessed. The primes are 2^bits - 1, as it is easy to divide
 by these.
 """
 
+from unsaidsizes.base.packing import packed
+
 EXPONENTS = (61, 89, 107, 127, 521, 607, 1279, 2203, 2281, 3217, 4253, 4423, 9689, 9941, 11213, 19937,
              21701, 23209, 44497, 86243, 110503, 132049, 216091)
 
@@ -26,14 +28,14 @@ def step_of(rows, most):
     return bound.bit_length()
 
 
-def value_at_power(one, step):
-    """The value of a polynomial at 2^step."""
-    return sum([number << (step * k) for k, number in enumerate(one)])
+def quick_residues(table):
+    """As `residues`, but for a small number and a small prime: what is 0 here need not be nought."""
+    return _residues_at(table, 10, EXPONENTS[0]), EXPONENTS[0]
 
 
 def _residues_at(table, step, bits):
     prime = (1 << bits) - 1
-    return [[value_at_power(one, step) % prime for one in row] for row in table]
+    return [[packed(one, step) % prime for one in row] for row in table]
 
 
 def residues(table):
@@ -87,7 +89,8 @@ def regular_columns(table):
     """As `pivots`, but for a table of polynomials."""
     # What is not 0 at some number and for some prime is not nought; so the
     # great prime is seldom needed if no rows are dependent.
-    found = pivots(_residues_at(table, 10, EXPONENTS[0]), EXPONENTS[0])
+    rows, bits = quick_residues(table)
+    found = pivots(rows, bits)
     if len(found) == len(table):
         return found
     rows, bits = residues(table)

@@ -19,22 +19,23 @@ def _divided(one, number):
 
 
 class Changing:
-    """Exact rows of a grid, each with the row of the changes behind it, and the steps that led there.
+    """Rows of polynomials, each with the row of the changes behind it, and the steps that led there.
 
-    A step is a tuple `(i, own, shared, others)`: row i was multiplied by
-    `own`, the rows l, times `number * d^up`, were added for each (l, number,
-    up) of `others`, and the sum was divided by `shared`.
+    The rows are told by their keys. A step is a tuple `(i, own, shared,
+    others)`: row i was multiplied by `own`, the rows l, times `number * d^up`,
+    were added for each (l, number, up) of `others`, and the sum was divided
+    by `shared`.
     """
 
-    def __init__(self, grid):
-        self.grid = grid
-        self.width = len(grid)
-        self.exact = exact_indexes(grid)
-        self.rows = [row + own for row, own in zip(exact_rows(grid), _unit(len(self.exact)))]
+    def __init__(self, table, keys, width):
+        self.width = width
+        self.place = {key: k for k, key in enumerate(keys)}
+        self.rows = [row + own for row, own in zip(table, _unit(len(table)))]
         self.steps = []
 
     def changed(self):
-        return with_exact(self.grid, [row[:self.width] for row in self.rows])
+        """The table of the rows without the changes."""
+        return [row[:self.width] for row in self.rows]
 
     def changes(self):
         return [[list(one) for one in row[self.width:]] for row in self.rows]
@@ -51,21 +52,25 @@ class Changing:
         self.steps.append((i, own, shared, others))
 
     def loosen(self, p, frame, columns):
-        """Makes as many rows as possible less tight: those that depend, at some columns, on rows with greater marks."""
-        order = [which for _, which in sorted([(-p[i], i) for i in self.exact])]
-        place = {which: k for k, which in enumerate(self.exact)}
-        for which, numbers in dependent(frame, order, columns):
+        """Makes rows less tight that depend, at some columns, on rows with greater marks; p tells them by the keys.
+
+        Returns how many these were: as many as possible.
+        """
+        order = [which for _, which in sorted([(-p[i], i) for i in frame.exact])]
+        found = dependent(frame, order, columns)
+        for which, numbers in found:
             own, others = 0, []
             for other, number in zip(order, numbers):
                 if other == which:
                     own = number
                 elif number != 0:
-                    others.append((place[other], number, p[other] - p[which]))
-            self.mix(place[which], own, others)
+                    others.append((self.place[other], number, p[other] - p[which]))
+            self.mix(self.place[which], own, others)
+        return len(found)
 
     def inverse(self):
         """The table whose product with the changes is a multiple of one."""
-        columns = [Column(one) for one in _unit(len(self.exact))]
+        columns = [Column(one) for one in _unit(len(self.rows))]
         for i, own, shared, others in self.steps:
             # What a row got from others is taken back where it stands.
             for k, number, up in others:
@@ -116,10 +121,10 @@ def relaxed(grid):
 
     None if the grid is not full.
     """
-    changing = Changing(grid)
     columns = list(range(len(grid)))
+    changing = Changing(exact_rows(grid), exact_indexes(grid), len(columns))
     while True:
-        now = changing.changed()
+        now = with_exact(grid, changing.changed())
         marks = least_marks(now)
         if marks is None:
             return None

@@ -1,7 +1,6 @@
 """The number of free beginnings, and its papers."""
 
-from unsaidsizes.base.inverses import are_inverse
-from unsaidsizes.base.polys import is_polynomial
+from unsaidsizes.base.inverses import are_changes
 from unsaidsizes.begin.changing import relaxed
 from unsaidsizes.marks.grids import changed, exact_indexes
 from unsaidsizes.marks.marks import is_marks
@@ -20,25 +19,20 @@ def beginnings(grid):
 def beginnings_paper(grid):
     """A paper that the check accepts, None if the grid is not full."""
     found = relaxed(grid)
-    if found is None:
-        return None
+    return None if found is None else paper_of(found)
+
+
+def paper_of(found):
+    """The paper for what `relaxed` has found."""
     changing, p, q, state = found
     _, columns, pairs = state.assignment()
-    return (changing.changes(), changing.inverse(), p, q, columns, [j for _, j in pairs])
-
-
-def _is_table(table, many):
-    if len(table) != many or not all(len(row) == many for row in table):
-        return False
-    return all(is_polynomial(one) for row in table for one in row)
+    return (changing.changes(), changing.inverse(), list(p), list(q), columns, [j for _, j in pairs])
 
 
 def check_beginnings(grid, number, paper):
     changes, inverse, p, q, columns, places = paper
     many = len(exact_indexes(grid))
-    if number != sum(q) - sum(p) or not _is_table(changes, many) or not _is_table(inverse, many):
-        return False
-    if not are_inverse(changes, inverse):
+    if number != sum(q) - sum(p) or not are_changes(changes, inverse, many):
         return False
     now = changed(grid, changes)
     if not is_marks(now, p, q):

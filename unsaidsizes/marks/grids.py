@@ -8,7 +8,8 @@ from unsaidsizes.models.model import exact_table
 MOST_ROWS = 16
 
 
-def _orders(told, many):
+def orders_of(told, many):
+    """For each quantity the ascending list of the orders of the places of a law with it."""
     row = [[] for _ in range(many)]
     for k, j in sorted(places_of(told)):
         row[j].append(k)
@@ -22,7 +23,7 @@ def grid_of(model):
         raise NotSquare(many)
     if many > MOST_ROWS:
         raise TooLarge(many)
-    sized = [("exact", []) if is_exact(told) else ("sized", _orders(told, many)) for told in laws]
+    sized = [("exact", []) if is_exact(told) else ("sized", orders_of(told, many)) for told in laws]
     return with_exact(sized, exact_table(model))
 
 

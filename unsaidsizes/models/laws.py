@@ -45,6 +45,10 @@ def is_in_range(told):
     return told[3] != []
 
 
+def copied_law(told):
+    return told[:-2] + (list(terms_of(told)), source_of(told))
+
+
 def with_quantities(told, change):
     """The law with the quantity change[j] in the place of each quantity j."""
     terms = [(number, k, change[j]) for number, k, j in terms_of(told)]

@@ -1,6 +1,7 @@
 """Models: pairs of a list of quantities and a list of laws."""
 
-from unsaidsizes.models.laws import has_twice, is_exact, is_in_range, places_of, sizes_in, source_of, terms_of
+from unsaidsizes.models.laws import (
+    copied_law, has_twice, is_exact, is_in_range, places_of, sizes_in, source_of, terms_of)
 from unsaidsizes.models.names import is_name
 
 MOST_QUANTITIES = 30
@@ -25,6 +26,16 @@ def is_model(model):
         return False
     names = quantities + sizes_of(model)
     return all(is_name(name) for name in names) and not has_twice(names)
+
+
+def copied_model(model):
+    quantities, laws = model
+    return (list(quantities), [copied_law(told) for told in laws])
+
+
+def exact_degrees(model):
+    """The sum of the degrees of the exact laws."""
+    return sum([max([0] + [k for _, k, _ in terms_of(told)]) for told in model[1] if is_exact(told)])
 
 
 def _powers_in(told, many):

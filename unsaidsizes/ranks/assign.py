@@ -7,7 +7,7 @@ from unsaidsizes.models.laws import is_exact
 from unsaidsizes.models.model import exact_laws, exact_table
 from unsaidsizes.ranks.frames import frame_of, touches
 from unsaidsizes.ranks.growing import grown, placed, reached, turned
-from unsaidsizes.ranks.needs import first_not_rising, is_set, need_quantity, need_row, need_set
+from unsaidsizes.ranks.needs import first_not_rising, need_quantity, need_row, need_set
 
 
 def entry(model, i, quantity):
@@ -58,28 +58,36 @@ def _are_pairs(touched, columns, pairs):
     return True
 
 
-def _has_form(model, rows, columns, pairs):
-    """True if three lists are an assignment but for the determinant, which is not looked at."""
-    if len(rows) != len(columns) or not is_set(model, columns):
+def _has_form(many, exact, touched, told):
+    """True if three lists are an assignment but for the determinant, which is not looked at.
+
+    `exact` has the exact laws, and `touched` tells what the sized ones touch.
+    """
+    rows, columns, pairs = told
+    if len(rows) != len(columns) or first_not_rising(columns, many) is not None:
         return False
-    exact = exact_laws(model)
-    if not all(which in exact for which in rows) or first_not_rising(rows, len(model[1])) is not None:
+    if not all(which in exact for which in rows) or not all(one < two for one, two in zip(rows, rows[1:])):
         return False
-    return _are_pairs(touches(model), columns, pairs)
+    return _are_pairs(touched, columns, pairs)
 
 
 def is_assignment(model, rows, columns, pairs):
-    if not _has_form(model, rows, columns, pairs):
-        return False
     table = {which: row for which, row in zip(exact_laws(model), exact_table(model))}
+    if not _has_form(len(model[0]), table, touches(model), (rows, columns, pairs)):
+        return False
     return is_regular([[table[which][j] for j in columns] for which in rows])
 
 
 def state_of(model, rows, columns, pairs):
     """The state of an assignment, or None if the three lists are none."""
-    if not _has_form(model, rows, columns, pairs):
+    return state_in(frame_of(model), rows, columns, pairs)
+
+
+def state_in(frame, rows, columns, pairs):
+    """As `state_of`, for what is known of a model."""
+    if not _has_form(frame.many, frame.rows, frame.touched, (rows, columns, pairs)):
         return None
-    state = placed(frame_of(model), rows, columns)
+    state = placed(frame, rows, columns)
     if state is not None:
         for which, j in pairs:
             state.paired[j] = which

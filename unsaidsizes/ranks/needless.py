@@ -2,26 +2,14 @@
 
 from unsaidsizes.base.elimination import solved_whole
 from unsaidsizes.base.lowest import lowest_forms
+from unsaidsizes.base.packing import packed, unpacked
 from unsaidsizes.base.polys import degree, is_polynomial, plus, scaled, times
-from unsaidsizes.base.residues import regular_columns, step_of, value_at_power
+from unsaidsizes.base.residues import regular_columns, step_of
 from unsaidsizes.errors import NotExact, WrongSize
 from unsaidsizes.models.laws import is_exact, source_of
 from unsaidsizes.models.model import exact_laws, exact_table
 from unsaidsizes.ranks.circuits import circuits
 from unsaidsizes.ranks.frames import frame_of
-
-
-def _polynomial_of(number, step):
-    """The polynomial with this value at 2^step, whose numbers are all less than half of that."""
-    whole = 1 << step
-    found = []
-    while number != 0:
-        low = number & (whole - 1)
-        if low + low >= whole:
-            low = low - whole
-        found.append(low)
-        number = (number - low) >> step
-    return found
 
 
 def _simple_first(table, laws):
@@ -40,10 +28,10 @@ def _multipliers(table, laws):
     others = _simple_first(table, laws[:-1])
     step = step_of([table[which] for which in laws], len(laws)) + 1
     columns = regular_columns([table[which] for which in others])
-    numbers = [[value_at_power(table[which][j], step) for which in others] for j in columns]
-    right = [value_at_power(table[last][j], step) for j in columns]
+    numbers = [[packed(table[which][j], step) for which in others] for j in columns]
+    right = [packed(table[last][j], step) for j in columns]
     own, found = solved_whole(numbers, right)
-    forms = lowest_forms([_polynomial_of(own, step)] + [_polynomial_of(-number, step) for number in found])
+    forms = lowest_forms([unpacked(own, step)] + [unpacked(-number, step) for number in found])
     sign = 1 if forms[0][-1] > 0 else -1
     return {which: scaled(one, sign) for which, one in zip([last] + others, forms)}
 

@@ -4,7 +4,7 @@ from unsaidsizes.base.polys import trimmed
 from unsaidsizes.begin.relax import beginnings
 from unsaidsizes.errors import NoSize, NotFull, OutOfRange, TooMany
 from unsaidsizes.marks.grids import copied, grid_of
-from unsaidsizes.models.laws import MOST_NUMBER, is_exact, sizes_in, source_of, terms_of
+from unsaidsizes.models.laws import MOST_NUMBER, copied_law, is_exact, sizes_in, source_of
 from unsaidsizes.models.model import MOST_LAWS, MOST_QUANTITIES, sizes_of
 from unsaidsizes.ranks.assign import rank
 from unsaidsizes.runs.ratios import common_below, whole
@@ -36,10 +36,6 @@ def _further_law(told, known, u):
     return ("sized", 0, u, left, source_of(told))
 
 
-def _copy(told):
-    return told[:-2] + (list(terms_of(told)), source_of(told))
-
-
 class Saying:
     """A model while its laws are gone through."""
 
@@ -54,7 +50,7 @@ class Saying:
 
     def say(self, i, told, known):
         if is_exact(told) or not any(size in known for size in sizes_in(told)):
-            self.laws.append(_copy(told))
+            self.laws.append(copied_law(told))
             return
         terms = _said_terms(told, known)
         if _is_left(told, known):

@@ -1,0 +1,1 @@
+"""What no size moves, and what can be steered and watched."""

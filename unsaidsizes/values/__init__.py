@@ -1,0 +1,1 @@
+"""Which sizes act together, and with which ones a model is exceptional."""
