@@ -13,13 +13,13 @@ class Order:
         self.forth = state.arcs()
         self.starts = state.left_out()
         self.stops = state.exits()
-        self.back = turned(self.forth)
+        self.turned_arcs = turned(self.forth)
         self.loose = reached(self.starts, self.forth)
-        self.crowded = reached(self.stops, self.back)
+        self.crowded = reached(self.stops, self.turned_arcs)
         barred = {j: True for j in self.loose + self.crowded}
         others = [j for j in range(len(self.forth)) if j not in barred]
         # A block needs those from which a way leads to it.
-        self.sources = {j: reached([j], self.back) for j in others}
+        self.sources = {j: reached([j], self.turned_arcs) for j in others}
         self.blocks = self.sorted_blocks(others)
 
     def sorted_blocks(self, others):
@@ -60,7 +60,7 @@ class Order:
         """A paper that `shows_parts` accepts with the parts."""
         rows, columns, pairs = self.state.assignment()
         walks = [_walk(block, self.forth) for block in self.blocks]
-        return (rows, columns, pairs, ways(self.starts, self.forth), ways(self.stops, self.back), walks)
+        return (rows, columns, pairs, ways(self.starts, self.forth), ways(self.stops, self.turned_arcs), walks)
 
 
 def _walk(block, arcs):

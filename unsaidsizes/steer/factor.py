@@ -18,10 +18,10 @@ def _first(grid):
 
 def _first_parts(known, columns, places):
     """Factors, prime to each other, one of which each zero of an arrangement belongs to."""
-    minor, _ = known.minors.at(columns)
+    minor, _ = known.minors.minor_at(columns)
     many, rest = parted(minor, list(POWER))
     found = [squarefree(rest)] if degree(rest) > 0 else []
-    if many + known.order(places) > 0:
+    if many + known.order_of(places) > 0:
         found.append(list(POWER))
     return found
 
@@ -103,7 +103,7 @@ def _exponent(known, told):
     part, columns, places, weights = told
     if not _may_be_part(part) or len(weights) != known.width or not known.has_form(columns, places):
         return None
-    found = known.minors.at(columns)
+    found = known.minors.minor_at(columns)
     if found is None:
         return None
     minor, exchanged = found
@@ -139,8 +139,8 @@ def _exponents(known, shown):
 
 def _are_all(known, columns, places, parts):
     """True if each zero of an arrangement belongs to one of some factors."""
-    rest, _ = known.minors.at(columns)
-    if known.order(places) > 0:
+    rest, _ = known.minors.minor_at(columns)
+    if known.order_of(places) > 0:
         rest = raised(rest, 1)
     for part in parts:
         shared = gcd(rest, part)

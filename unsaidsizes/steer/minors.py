@@ -14,11 +14,11 @@ class Minors:
     def __init__(self, table, width):
         self.many = len(table)
         self.width = width
-        self.step = step_of(table, self.many) + 1
-        self.numbers = [[packed(one, self.step) for one in row] for row in table]
+        self.digit = step_of(table, self.many) + 1
+        self.numbers = [[packed(one, self.digit) for one in row] for row in table]
         self.known = {}
 
-    def at(self, columns):
+    def minor_at(self, columns):
         """The determinant at as many columns as rows, and a dict with those that have column a in the place of b.
 
         These stand under the keys (a, b), all of them but for one sign that
@@ -26,10 +26,10 @@ class Minors:
         """
         key = tuple(columns)
         if key not in self.known:
-            self.known[key] = self.found(columns)
+            self.known[key] = self.solved_at(columns)
         return self.known[key]
 
-    def found(self, columns):
+    def solved_at(self, columns):
         others = [a for a in range(self.width) if a not in columns]
         own = [[row[j] for j in columns] for row in self.numbers]
         solved = solved_sides(own, [[row[j] for j in others] for row in self.numbers])
@@ -40,5 +40,5 @@ class Minors:
         for b, row in zip(columns, table):
             for a, number in zip(others, row):
                 if number != 0:
-                    exchanged[(a, b)] = unpacked(number, self.step)
-        return unpacked(minor, self.step), exchanged
+                    exchanged[(a, b)] = unpacked(number, self.digit)
+        return unpacked(minor, self.digit), exchanged

@@ -40,12 +40,12 @@ class Arrangements:
             return False
         return is_regular([[row[j] for j in columns] for row in self.table])
 
-    def order(self, places):
+    def order_of(self, places):
         return sum([row[j] for row, j in zip(self.sized, places)])
 
     def exponent(self, part, many, places):
         """The exponent of a factor that divides the minor so many times."""
-        return many + self.order(places) if is_power(part) else many
+        return many + self.order_of(places) if is_power(part) else many
 
     def sized_arcs(self, part, places):
         """An arc from each column of a sized row to its place, with what it costs for a factor to take it instead."""
@@ -61,7 +61,7 @@ class Arrangements:
 
         Behind it all arcs, with the times that the factor divides more.
         """
-        minor, exchanged = self.minors.at(columns)
+        minor, exchanged = self.minors.minor_at(columns)
         own, shared = _purity(minor, part)
         if shared is not None:
             return shared, []

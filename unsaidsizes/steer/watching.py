@@ -31,14 +31,14 @@ class Rest:
         self.state = state
         self.unseen = unseen
         # In the assignment no seen quantity has a law; so no arc leads to one.
-        self.back = turned(state.arcs())
+        self.turned_arcs = turned(state.arcs())
         self.stops = [j for j in state.exits() if j in unseen]
 
-    def crowded(self):
-        return [j for j in reached(self.stops, self.back) if j in self.unseen]
+    def crowded_ones(self):
+        return [j for j in reached(self.stops, self.turned_arcs) if j in self.unseen]
 
     def shown_ways(self):
-        return [(a, b) for a, b in ways(self.stops, self.back) if a in self.unseen]
+        return [(a, b) for a, b in ways(self.stops, self.turned_arcs) if a in self.unseen]
 
     def grids(self, crowded, rows):
         """The own and the crowded grid for the changed exact rows, None if these are not parted as they have to be."""
@@ -55,7 +55,7 @@ class Rest:
 
     def parted(self):
         """Changes, their inverse, and the own and the crowded grid for them."""
-        table, crowded = exact_table(self.told), self.crowded()
+        table, crowded = exact_table(self.told), self.crowded_ones()
         changes, inverse = parting(table, len(self.told[0]), [j for j in self.unseen if j not in crowded])
         return changes, inverse, self.grids(crowded, product(changes, table))
 
@@ -110,12 +110,12 @@ def watching_paper(model, seen):
 def _shown_crowded(rest, told):
     """The crowded quantities, if the ways of a paper show them, otherwise None."""
     crowded = sorted([a for a, _ in told])
-    if not are_ways(told, crowded, rest.stops, rest.back):
+    if not are_ways(told, crowded, rest.stops, rest.turned_arcs):
         return None
     barred = {a: True for a in crowded}
     if not all(a in barred for a in rest.stops) or not all(a in rest.unseen for a in crowded):
         return None
-    if any(a in rest.unseen and a not in barred for b in crowded for a in rest.back[b]):
+    if any(a in rest.unseen and a not in barred for b in crowded for a in rest.turned_arcs[b]):
         return None
     return crowded
 

@@ -45,4 +45,4 @@ def faults(model, sizes):
     """The numbers of the groups whose simple polynomial is 0 at some sizes."""
     found = Groups(model)
     found.need_sizes(sizes)
-    return [k for k, block in enumerate(found.blocks()) if block.value_at(sizes) == 0]
+    return [k for k, block in enumerate(found.group_blocks()) if block.value_at(sizes) == 0]

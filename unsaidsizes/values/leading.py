@@ -10,7 +10,7 @@ def polynomial(model, k):
     """The polynomial of a group, in pairs."""
     found = Groups(model)
     found.need_group(k)
-    return found.blocks()[k].polynomial()
+    return found.group_blocks()[k].polynomial()
 
 
 def _shortest(told):
@@ -25,7 +25,7 @@ def factor(model):
     for k in range(len(found.told)):
         found.need_few(k)
     said, product = [(0, 1)] * found.many, 1
-    for block in found.blocks():
+    for block in found.group_blocks():
         # With 1 for its sizes and 0 for all others, just this pair is left.
         sizes, number = _shortest(block.polynomial())
         product = product * number

@@ -16,7 +16,7 @@ def forbidden(model, sizes, k):
     found.need_sizes(sizes)
     found.need_size(k)
     own = found.group_of(k)
-    blocks = found.blocks()
+    blocks = found.group_blocks()
     if any(block.value_at(sizes) == 0 for at, block in enumerate(blocks) if at != own):
         return ("always",)
     if own is None:
@@ -34,5 +34,5 @@ def alone(model, k):
     own = found.group_of(k)
     if own is None or len(found.told[own][0]) > 1:
         return None
-    low, slope = _zero(found.blocks()[own], [(0, 1)] * found.many, k)
+    low, slope = _zero(found.group_blocks()[own], [(0, 1)] * found.many, k)
     return ratio(-low, slope)

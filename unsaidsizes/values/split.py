@@ -54,7 +54,7 @@ class Groups:
                 return k
         return None
 
-    def blocks(self):
+    def group_blocks(self):
         """For each group its block."""
         blocks = self.order.blocks
         exact, own = self.tight.exact_parts(blocks), self.tight.own_rows(blocks)

@@ -11,7 +11,7 @@ def _polynomial(model, k):
     found.need_group(k)
     sizes, _ = found.told[k]
     place = {size: m for m, size in enumerate(sizes)}
-    told = found.blocks()[k].polynomial()
+    told = found.group_blocks()[k].polynomial()
     return len(sizes), [([place[size] for size in own], number) for own, number in told]
 
 

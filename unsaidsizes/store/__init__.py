@@ -1,0 +1,1 @@
+"""Models that are changed under promises."""
