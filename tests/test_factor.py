@@ -170,6 +170,19 @@ class TestWeights(unittest.TestCase):
             self.assertIs(fresh(self, are_weights, self.GRID, part, columns, places, weights), told, (part, columns, places, weights))
             self.assertIs(slow_are_weights(self.GRID, part, columns, places, weights) is not None, told)
 
+    def test_noughts(self):
+        grid = [("exact", [[1, 1], []]), ("sized", [[0], [0]])]
+        for part in ([1, 1], [0, 1], [7, 1]):
+            # A minor that is nought; and no minor but nought beside the right one.
+            self.assertIs(are_weights(grid, part, [1], [0], [0, 0]), False)
+            self.assertIs(slow_are_weights(grid, part, [1], [0], [0, 0]) is not None, False)
+            self.assertIs(is_arrangement(grid, [1], [0]), False)
+            for weights, told in (([0, 0], True), ([10 ** 30, 10 ** 30], True), ([10 ** 30, 0], True), ([0, 1], False)):
+                self.assertIs(are_weights(grid, part, [0], [1], weights), told)
+                self.assertIs(slow_are_weights(grid, part, [0], [1], weights) is not None, told)
+        self.assertIs(check_factor(grid, [1, 1], ([0], [1], [([1, 1], [0], [1], [5, 0])])), True)
+        self.assertIs(check_factor(grid, [1, 1], ([0], [1], [([1, 1], [1], [0], [0, 0])])), False)
+
     def test_of_papers(self):
         chance = random.Random(904)
         kinds = {True: 0, False: 0}

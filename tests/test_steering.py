@@ -311,6 +311,12 @@ class TestPapers(unittest.TestCase):
                 paper = good[:at] + (other,) + good[at + 1:]
                 self.assertIs(slow_check_steering(model, 1, [1], paper), False, paper)
                 self.assertIs(fresh(self, check_steering, model, 1, [1], paper), False, paper)
+        # Changes with an inverse, after which too many rows have something at the loose quantities.
+        unit = [[[1], []], [[], [1]]]
+        for changes, inverse in ((unit, unit), ([[[1], []], [[-1], [1]]], [[[1], []], [[1], [1]]])):
+            paper = good[:4] + (changes, inverse) + good[6:]
+            self.assertIs(slow_check_steering(model, 1, [1], paper), False)
+            self.assertIs(check_steering(model, 1, [1], paper), False)
         # Changes times integers, other ways, a factor more that is prime to all.
         more = good[:4] + ([[[7], []], [[-2], [1]]], [[[1], []], [[2], [7]]]) + good[6:]
         self.assertIs(check_steering(model, 1, [1], more), slow_check_steering(model, 1, [1], more))

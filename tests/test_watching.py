@@ -253,6 +253,31 @@ class TestPapers(unittest.TestCase):
         spoilt = paper[:4] + ([[[], [1]], [[1], []]], [[[], [1]], [[1], []]]) + paper[6:]
         self.assertIs(check_watching(other, [], 3, [1], spoilt), slow_check_watching(other, [], 3, [1], spoilt))
 
+    def test_ways_and_changes(self):
+        # y tells x, for which there is another law besides: both are crowded, and only x is an exit.
+        model = (["x", "y"], [("sized", 1, 0, [("s", 0, 1)], ""), ("sized", 2, 0, [("t", 0, 0)], ""), ("exact", [(1, 1, 1), (1, 0, 1)], "")])
+        told = watching(model, [])
+        good = ([2], [1], [(0, 0)], [(0, -1)]) + watching_paper(model, [])[4:]
+        self.assertEqual(unwatched(model, []), slow_unwatched(model, []))
+        for ways in ([(0, -1), (1, 0)], [(0, -1)], [(1, -1), (0, -1)], [(0, -1), (1, -1)], [(1, 0), (0, -1)], [(0, 1), (1, -1)], [(0, -1), (1, 0), (1, 0)]):
+            for rows in (([2], [1], [(0, 0)]), ([2], [1], [(1, 0)]), watching_paper(model, [])[:3]):
+                paper = rows + (ways,) + good[4:]
+                self.assertIs(check_watching(model, [], *told, paper), slow_check_watching(model, [], *told, paper), paper)
+        self.assertIs(check_watching(model, [], *told, ([2], [1], [(0, 0)], [(0, -1), (1, 0)]) + good[4:]), told == watching(model, []))
+        self.assertIs(check_watching(model, [], *told, good), False)
+        # Both exact laws have w; the changes have to take it out of one of them.
+        model = (["w", "x"], [("exact", [(1, 0, 0), (1, 1, 1)], ""), ("exact", [(1, 1, 0), (-1, 0, 1)], ""), ("sized", 1, 1, [("s", 0, 1)], "")])
+        other = (["w", "x"], [("exact", [(1, 1, 0), (1, 0, 1)], ""), ("exact", [(1, 2, 0), (-1, 0, 1)], ""), ("sized", 1, 1, [("s", 2, 1)], "")])
+        unit = [[[1], []], [[], [1]]]
+        for model in (model, other):
+            told, paper = watching(model, []), watching_paper(model, [])
+            self.assertEqual(unwatched(model, []), slow_unwatched(model, []))
+            self.assertIs(check_watching(model, [], *told, paper), True)
+            self.assertNotEqual(paper[4], unit)
+            spoilt = paper[:4] + (unit, unit) + paper[6:]
+            self.assertIs(slow_check_watching(model, [], *told, spoilt), False)
+            self.assertIs(check_watching(model, [], *told, spoilt), False)
+
     def test_long_lists(self):
         begun = time.monotonic()
         model = (["x", "y"], [("exact", [(1, 1, 0), (1, 0, 0)], ""), ("exact", [(1, 1, 0), (1, 0, 1)], ""), ("sized", 0, 1, [("s", 0, 0)], "")])

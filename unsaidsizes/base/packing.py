@@ -29,7 +29,4 @@ def unpacked(number, step):
     many = number.bit_length() // step + 1
     half = 1 << (step - 1)
     # Digits that are all greater by the same number are not below 0.
-    found = [own - half for own in _digits(number + packed([half] * many, step), many, step)]
-    while found[-1] == 0:
-        found.pop()
-    return found
+    return [own - half for own in _digits(number + packed([half] * many, step), many, step)]

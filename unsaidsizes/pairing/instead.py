@@ -22,9 +22,9 @@ def chain(model, order, wishes, i):
 
 def substitute(model, wishes, i):
     """The quantity that has to be given instead of a law, None if it is spare."""
-    need_wishes(model, wishes)
-    need_row(model, i)
-    return substitutes(model, wishes)[i]
+    # It stands at the end of the chain, whatever the order is.
+    told = chain(model, list(range(len(model[1]))), wishes, i)
+    return None if told == [] else told[-1][1]
 
 
 def substitutes(model, wishes):
