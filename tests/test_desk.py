@@ -110,8 +110,9 @@ class TestDesk(unittest.TestCase):
                 "open 1", "open a.", "open " + "a" * 201, "add", "add ", "put", "put ", "put 0", "put 0 ", "put x law 0 = 0", "put -1 law 0 = 0", "put 00 law 0 = 0",
                 "put 01 law 0 = 0", "put 1234567890 law 0 = 0", "put  0 law 0 = 0", "drop", "drop ", "drop x", "drop -1", "drop 00", "drop 01", "drop 0 0", "drop  0",
                 "drop 1234567890", "drop 0 ", "drop 1.0", "drop +1", "quantity", "quantity ", "quantity A", "quantity a b", "quantity a.", "quantity  a", "leave", "leave A",
-                "leave a b", "say", "say a.k", "say a.k 1", "say a.k 1 0", "say a.k 1 00", "say a.k 1 01", "say a.k 01 1", "say a.k 1 1001", "say a.k 1001 1",
-                "say a.k -1001 1", "say a.k 2 4", "say a.k -2 4", "say a.k 0 2", "say a.k -0 2", "say a.k 1 -1", "say a.k --1 1", "say a.k - 1", "say a.k +1 1",
+                "leave a b", "say", "say a.k", "say a.k 1", "say a.k 1 0", "say a.k 1 00", "say a.k 1 01", "say a.k 01 1", "say a.k -01 1", "say a.k 00 1",
+                "say a.k 1 1001", "say a.k 1001 1", "say a.k -1001 1", "say a.k 0 0", "say a.k -0 0", "say a.k 2 0", "say a.k 0 1001", "say a.k 2 2000",
+                "say a.k 2000 2", "say a.k -2000 2", "say a.k 1 -0", "say a.k 1 -1", "say a.k 0 -1", "say a.k --1 1", "say a.k --0 1", "say a.k - 1", "say a.k +1 1",
                 "say A 1 1", "say a.k 1 2 3", "say a.k 1 2 ", "say a.k  1 2", "say a.k 1000 1234567890", "say 1 2 a.k", "back ", "back 1", "promise", "promise ",
                 "promise tied", "promise tied A", "promise tied a b", "promise whole x", "promise whole ", "promise begins", "promise begins -1", "promise begins 00",
                 "promise begins x", "promise begins 1234567890", "promise index", "promise index 1 1", "promise ahead a", "promise ahead a b c", "promise ahead", "promise apart a",
@@ -127,7 +128,7 @@ class TestDesk(unittest.TestCase):
             ("sure 1", "OutOfRange 1"), ("sure 999999999", "OutOfRange 999999999"), ("instead 6", "NoLaw 6"), ("promise begins 999999999", "refused 0"),
             ("promise tied x.y.z", "refused 0"), ("promise watched 1 x", "refused 0"), ("leave " + "a" * 200, "NoQuantity 0"), ("unwatched zz", "NoName 0"),
             ("unwatched a.x zz", "NoName 0"), ("unwatched f", "NoName 0"), ("quantity a.x", "NotModel 0"), ("quantity a.k", "NotModel 0"), ("say zz 1 1", "NoSize 0"),
-            ("say a.x 1 1", "NoSize 0"), ("put 6 law 0 = 0", "NoLaw 6"), ("leave a.x", "Needed 2"), ("open zz", "NoPart 0"), ("open a.b", "NoPart 0"))])
+            ("say zz 2 4", "NoSize 0"), ("say a.x 1 1", "NoSize 0"), ("put 6 law 0 = 0", "NoLaw 6"), ("leave a.x", "Needed 2"), ("open zz", "NoPart 0"), ("open a.b", "NoPart 0"))])
         self.answers(opened("pair"), ("say a.k -0 1", "ok"), ("back", "ok"), ("say a.k 0 1", "ok"), ("back", "ok"), ("say a.k -1000 999", "ok"), ("back", "ok"),
                      ("say a.k 1 1000", "ok"), ("say b.k 1000 1", "ok"), ("groups", "none"))
 
@@ -198,6 +199,25 @@ class TestDesk(unittest.TestCase):
                      ("law 2", "size said0 = s*y + f"), ("say r 1 2", "NoSize 0"), ("back", "ok"), ("back", "ok"), ("back", "NothingToUndo 0"))
         self.assertEqual(desk.do("say s -0 1"), "ok")
         self.assertEqual(desk.store().edits(), [("say", {"s": (0, 1)})])
+
+    def test_say_words_with_a_common_divisor(self):
+        desk = with_laws("inner x\ninner v\nlaw 1*x' - 1*v = 0\nsize v' = s*x + r*v + push\n")
+        for words, told in (("-0 3", (0, 1)), ("0 2", (0, 1)), ("0 1000", (0, 1)), ("-0 1000", (0, 1)), ("0 1", (0, 1)), ("-0 1", (0, 1)), ("-4 6", (-2, 3)), ("-2 3", (-2, 3)),
+                            ("2 4", (1, 2)), ("6 3", (2, 1)), ("7 7", (1, 1)), ("1000 1000", (1, 1)), ("-1000 1000", (-1, 1)), ("-1000 10", (-100, 1)), ("998 1000", (499, 500)),
+                            ("999 1000", (999, 1000)), ("1000 999", (1000, 999)), ("1000 1", (1000, 1)), ("1 1000", (1, 1000))):
+            store = desk.store()
+            store.edit(("say", {"s": told}))
+            self.answers(desk, ("say s " + words, "ok"))
+            self.assertEqual((desk.store().model(), desk.store().edits()), (store.model(), [("say", {"s": told})]), words)
+            self.answers(desk, ("back", "ok"))
+        self.answers(desk, ("say s -4 6", "ok"), ("law 1", "law 3*v' + 2*x - 3*said1 = 0"), ("say r 0 5", "ok"), ("law 2", "law 1*said1 - 1*said2 = 0"))
+
+    def test_say_is_tried_in_order(self):
+        self.stays(Desk(), ("say s 2 4", "no store"), ("say s 2 0", "?"))
+        desk = with_laws("inner x\ninner y\nlaw 1*x - 1*y = 0\nsize y = u*x\n")
+        self.answers(desk, ("promise whole", "ok"))
+        self.stays(desk, ("say s 2 4", "NoSize 0"), ("say u 1 1", "refused 0"), ("say u 5 5", "refused 0"))
+        self.answers(desk, ("say u -5 5", "ok"), ("law 1", "law 1*y + 1*x = 0"))
 
     def test_promises(self):
         desk = with_laws("inner x\ninner y\ninner z\nsize x' = r*x + f\nsize y = s*x\nsize z' = t*z\n")

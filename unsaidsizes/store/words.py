@@ -2,7 +2,7 @@
 
 from unsaidsizes.models.laws import has_twice
 from unsaidsizes.models.names import is_name
-from unsaidsizes.runs.ratios import is_ratio
+from unsaidsizes.runs.ratios import ratio
 
 DIGITS = "0123456789"
 MOST_DIGITS = 9
@@ -57,14 +57,14 @@ def _promise(words):
 
 
 def _said(words):
-    """The name and the fraction of the words behind `say`."""
+    """The name and the fraction, in lowest terms, of the words behind `say`."""
     if len(words) != 3 or not is_name(words[0]):
         return None
     top = words[1]
     n, d = _number(top[1:] if top.startswith("-") else top), _number(words[2])
-    if n is None or d is None or n > MOST_PART or d > MOST_PART or not is_ratio((n, d)):
+    if n is None or d is None or n > MOST_PART or not 1 <= d <= MOST_PART:
         return None
-    return [words[0], (-n if top.startswith("-") else n, d)]
+    return [words[0], ratio(-n if top.startswith("-") else n, d)]
 
 
 def _with_text(command, rest):
